@@ -66,7 +66,9 @@ class Between(AtLeast, AtMost):
 
     def __init__(self, least, most, *kinds):
         _check_rule([least, most], kinds)
-        Rule.__init__(self, least, most, kinds)
+        self.least = least
+        self.most = most
+        self.kinds = tuple(kinds)
 
     def holds(self, counts):
         """Tell whether the rule holds for the counts."""
@@ -85,7 +87,9 @@ class Exactly(Between):
 
     def __init__(self, number, *kinds):
         _check_rule([number], kinds)
-        Rule.__init__(self, number, number, kinds)
+        self.least = number
+        self.most = number
+        self.kinds = tuple(kinds)
 
     def holds(self, counts):
         """Tell whether the rule holds for the counts."""

@@ -6,12 +6,12 @@ import pathlib
 import unittest
 import warnings
 
-from countsheld import counts, errors, rules
+from countsheld import books, counts, desks, doors, errors, histories, rules
 
 FOLDER = pathlib.Path(__file__).resolve().parent.parent / "countsheld"
 DOUBLE = "__init__ __eq__ __repr__ __str__ __len__ __iter__ __le__ __lt__ __ge__ __gt__ __add__ " \
     "__sub__ __and__ __or__ __xor__ __neg__ __abs__ __mul__ __rmul__ __floordiv__ __mod__ __iadd__ " \
-    "__isub__ __iand__ __ior__ __imul__ __getitem__ __setitem__ __contains__ __bool__".split()
+    "__isub__ __iand__ __ior__ __imul__ __getitem__ __setitem__ __contains__ __bool__ __call__".split()
 BARRED_CALLS = ("open", "input", "eval", "exec", "print", "chr", "hash", "id", "map", "filter", "round")
 LISTED = {
     counts: {
@@ -28,7 +28,17 @@ LISTED = {
         "Exactly": "__init__ holds lacks __str__",
         "Rules": "__init__ of cap __contains__ broken numbers each __len__ __eq__",
     },
+    doors: {"Door": "__init__ of mentioned __len__ __eq__ __str__ __call__"},
+    desks: {"Desk": "__init__ begins __getitem__ __contains__ __len__ __iter__ __eq__ __str__ varied read"},
+    books: {
+        "Book": "__init__ desk deploy add_owner __getitem__ __contains__ __len__ owners __iter__ come leave begin "
+                "under_way call broken shown",
+        "Call": "is_open next_line go_on",
+        "Owner": "__getitem__ __setitem__ drop __contains__ __len__ numbers_of counts __iter__",
+    },
+    histories: {"Run": "__len__ counts_after"},
 }
+FUNCTIONS = {rules: ["read_rule"], books: ["by_hand"], histories: ["play"]}
 PARAMETERS = {
     counts.Counts.of: ["pairs"], counts.Counts.tally: ["words"], rules.read_rule: ["text"],
     rules.Rule.total_of: ["self", "counts"], rules.Exactly.holds: ["self", "counts"],
@@ -37,6 +47,22 @@ PARAMETERS = {
     rules.Rules.numbers: ["self", "counts"], rules.AtLeast.__init__: ["self", "least", "kinds"],
     rules.AtMost.__init__: ["self", "most", "kinds"], rules.Exactly.__init__: ["self", "number", "kinds"],
     rules.Between.__init__: ["self", "least", "most", "kinds"], rules.Rules.__init__: ["self", "rules", "loose"],
+    doors.Door.__init__: ["self", "name", "lines"], doors.Door.of: ["name", "lines"],
+    doors.Door.__call__: ["self", "book", "owner", "row", "other", "picks"],
+    desks.Desk.__init__: ["self", "rules", "doors", "begins", "limit", "store"],
+    desks.Desk.varied: ["self", "doors", "limit", "store"], desks.Desk.read: ["text"],
+    books.Book.__init__: ["self", "desk"], books.Book.deploy: ["self", "desk"],
+    books.Book.add_owner: ["self", "begin"], books.Book.come: ["self", "owner", "kind"],
+    books.Book.leave: ["self", "owner", "row"], books.Book.under_way: ["self", "owner"],
+    books.Book.begin: ["self", "door", "owner", "row", "other", "picks"], books.Book.call: ["self", "number"],
+    books.Call.go_on: ["self", "other", "picks"], books.Owner.drop: ["self", "row"],
+    books.Owner.numbers_of: ["self", "kind"], books.by_hand: ["book", "owner", "edits"],
+    histories.play: ["desk", "history"], histories.Run.counts_after: ["self", "at"],
+}
+BY_NAME_ONLY = {
+    rules.Rules.__init__: {"loose": ()}, desks.Desk.__init__: {"limit": 1, "store": ()},
+    desks.Desk.varied: {"doors": None, "limit": None, "store": None},
+    books.Book.begin: {"row": None, "other": None, "picks": ()}, books.Call.go_on: {"other": None, "picks": ()},
 }
 
 
@@ -62,17 +88,27 @@ class TestInterface(unittest.TestCase):
                     self.assertIn(method, vars(made), name)
 
     def test_functions_stand_in_their_file(self):
-        self.assertEqual(rules.read_rule.__module__, "countsheld.rules")
+        for module, names in FUNCTIONS.items():
+            for name in names:
+                self.assertEqual(getattr(module, name).__module__, module.__name__)
         self.assertEqual(errors.BadRule.__module__, "countsheld.errors")
 
     def test_parameters(self):
         for function, names in PARAMETERS.items():
             self.assertEqual(list(inspect.signature(function).parameters), names)
 
+    def test_parameters_by_name_only(self):
+        for function in PARAMETERS:
+            found = inspect.signature(function).parameters.values()
+            named = {one.name: one.default for one in found if one.kind == one.KEYWORD_ONLY}
+            self.assertEqual(named, BY_NAME_ONLY.get(function, {}))
+
     def test_kinds_of_methods(self):
-        self.assertIsInstance(vars(counts.Counts)["total"], property)
-        for made in (counts.Counts, rules.Rules):
-            self.assertIsInstance(vars(made)["of"], classmethod)
+        for made, name in ((counts.Counts, "total"), (books.Book, "desk"), (books.Call, "is_open"),
+                           (books.Call, "next_line")):
+            self.assertIsInstance(vars(made)[name], property)
+        for made, name in ((counts.Counts, "of"), (rules.Rules, "of"), (doors.Door, "of"), (desks.Desk, "read")):
+            self.assertIsInstance(vars(made)[name], classmethod)
         self.assertTrue(inspect.isgeneratorfunction(rules.Rules.each))
 
 
@@ -118,7 +154,7 @@ class TestFiles(unittest.TestCase):
     def test_decorators(self):
         for path, node in nodes(ast.FunctionDef):
             for one in node.decorator_list:
-                self.assertIn(ast.unparse(one), ("property", "classmethod"), (path, node.name))
+                self.assertIn(ast.unparse(one), ("property", "classmethod", "desk.setter"), (path, node.name))
 
     def test_calls(self):
         for path, node in nodes(ast.Call):
@@ -129,7 +165,8 @@ class TestFiles(unittest.TestCase):
         for path, node in nodes(ast.Call):
             name = ast.unparse(node.func)
             if name == "sorted":
-                self.assertEqual([ast.unparse(one) for one in node.keywords], ["key=str"], path)
+                shown = [ast.unparse(one) for one in node.keywords]
+                self.assertIn(shown, (["key=str"], ["key=int"]), path)
             if name in ("min", "max"):
                 shown = [ast.unparse(one).lstrip("[") for one in node.args]
                 self.assertTrue(all(one.startswith("int(") for one in shown), (path, shown))
@@ -144,3 +181,42 @@ class TestFiles(unittest.TestCase):
             self.assertNotIsInstance(node.value, (float, complex), path)
             if isinstance(node.value, str):
                 self.assertNotIn("\x25", node.value, path)
+
+    def test_init_of_the_own_base_alone(self):
+        for path, made in nodes(ast.ClassDef):
+            bases = [ast.unparse(base) for base in made.bases[:1]]
+            for node in ast.walk(made):
+                if isinstance(node, ast.Attribute) and node.attr == "__init__":
+                    self.assertIn(ast.unparse(node.value), bases, (path, made.name))
+
+    def test_no_name_is_a_method_and_an_attribute(self):
+        methods, attributes = set(), set()
+        for path, made in nodes(ast.ClassDef):
+            methods.update(node.name for node in made.body if isinstance(node, ast.FunctionDef))
+        for path, node in nodes(ast.Attribute):
+            if isinstance(node.ctx, ast.Store):
+                attributes.add(node.attr)
+        # The one property that is assigned has a setter.
+        self.assertEqual(methods & attributes, {"desk"})
+
+    def test_attributes_are_assigned_through_a_name(self):
+        for path, node in nodes(ast.Attribute):
+            if isinstance(node.ctx, (ast.Store, ast.Del)):
+                self.assertIsInstance(node.value, ast.Name, (path, node.lineno))
+
+    def test_no_local_name_is_that_of_an_import_or_a_class(self):
+        for path, text in sources().items():
+            tree = ast.parse(text)
+            taken = {alias.name for node in ast.walk(tree) if isinstance(node, ast.ImportFrom) for alias in node.names}
+            taken |= {node.name for node in ast.walk(tree) if isinstance(node, ast.ClassDef)}
+            for node in ast.walk(tree):
+                if isinstance(node, ast.arg):
+                    self.assertNotIn(node.arg, taken, path)
+                if isinstance(node, ast.Name) and isinstance(node.ctx, ast.Store):
+                    self.assertNotIn(node.id, taken, (path, node.lineno))
+
+    def test_errors_are_caught_by_their_own_names(self):
+        for path, node in nodes(ast.ExceptHandler):
+            caught = node.type.elts if isinstance(node.type, ast.Tuple) else [node.type]
+            for one in caught:
+                self.assertEqual(getattr(errors, one.id).__module__, "countsheld.errors", path)
