@@ -29,6 +29,10 @@ class Owner:
         """Return a list of the rows of this kind, ascending."""
         return self._rows.rows_of(kind)
 
+    def rows_now(self):
+        """Return a copy of the rows."""
+        return self._rows.copied()
+
     def counts(self):
         """Return the counts of the ruled rows."""
         return self._rows.counts_of(self._of_book.desk.rules.kinds)

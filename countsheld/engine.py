@@ -1,16 +1,7 @@
 """How a line of a door is executed."""
 
 from countsheld.errors import NoPick
-
-# Whether a sign lets a number pass that is below, equal to or above the one behind it.
-_PASSES = {
-    "<": (True, False, False),
-    "<=": (True, True, False),
-    "=": (False, True, False),
-    "!=": (True, False, True),
-    ">=": (False, True, True),
-    ">": (False, False, True),
-}
+from countsheld.signs import passes
 
 
 class Scene:
@@ -58,11 +49,7 @@ def _test_holds(test, scene):
     if test.whose == "row":
         return scene.home.is_of(scene.row, test.kinds)
     rows = scene.touched if test.whose == "other" else scene.home
-    many = rows.how_many(test.kinds)
-    below, equal, above = _PASSES[test.sign]
-    if many < test.number:
-        return below
-    return equal if many == test.number else above
+    return passes(test, rows.how_many(test.kinds))
 
 
 def _unkept_rule(desk, scene):
@@ -145,11 +132,16 @@ _ACTIONS = {
 }
 
 
+def do_part(part, scene):
+    """Do the part on the rows of the scene; return whether it is done, or refused."""
+    action = _ACTIONS[part.word]
+    return action(scene, part)
+
+
 def _refused_part(line, scene):
     """Do the parts until one is refused; return its index, or None."""
     for at, part in enumerate(line.parts):
-        action = _ACTIONS[part.word]
-        if not action(scene, part):
+        if not do_part(part, scene):
             return at
     return None
 

@@ -46,10 +46,8 @@ def read_line(text):
         return _line_of("look", [], _split_at(tokens[1:], "and"))
     if tokens[:1] != ["do"]:
         return None
-    if "if" not in tokens:
-        return _line_of("do", _split_at(tokens[1:], "then"), [])
-    at = tokens.index("if")
-    return _line_of("do", _split_at(tokens[1:at], "then"), _split_at(tokens[at + 1:], "and"))
+    ahead, behind = _beside_first(tokens[1:], "if")
+    return _line_of("do", _split_at(ahead, "then"), [] if behind is None else _split_at(behind, "and"))
 
 
 def kinds_of(line):
@@ -62,6 +60,14 @@ def kinds_of(line):
     for test in line.tests:
         found.extend(list(test.kinds))
     return found
+
+
+def _beside_first(tokens, word):
+    """Return the tokens ahead of the first such word and those behind it; None for these if there is none."""
+    for at, token in enumerate(tokens):
+        if token == word:
+            return tokens[:at], tokens[at + 1:]
+    return tokens, None
 
 
 def _split_at(tokens, word):

@@ -32,7 +32,7 @@ class AtLeast(Rule):
 
     def holds(self, counts):
         """Tell whether the rule holds for the counts."""
-        return _allows(self, self.total_of(counts))
+        return allows(self, self.total_of(counts))
 
     def lacks(self, counts):
         """Return how many rows are too few, or none."""
@@ -51,7 +51,7 @@ class AtMost(Rule):
 
     def holds(self, counts):
         """Tell whether the rule holds for the counts."""
-        return _allows(self, self.total_of(counts))
+        return allows(self, self.total_of(counts))
 
     def lacks(self, counts):
         """Return how many rows are too few or too many."""
@@ -72,7 +72,7 @@ class Between(AtLeast, AtMost):
 
     def holds(self, counts):
         """Tell whether the rule holds for the counts."""
-        return _allows(self, self.total_of(counts))
+        return allows(self, self.total_of(counts))
 
     def lacks(self, counts):
         """Return how many rows are too few or too many."""
@@ -93,7 +93,7 @@ class Exactly(Between):
 
     def holds(self, counts):
         """Tell whether the rule holds for the counts."""
-        return _allows(self, self.total_of(counts))
+        return allows(self, self.total_of(counts))
 
     def lacks(self, counts):
         """Return how many rows are too few or too many."""
@@ -136,6 +136,7 @@ class Rules:
         self._caps = caps
         # No ruled kind goes beyond its cap, so these few decide about all counts.
         self._within = _numbers_within(rules, ruled, caps)
+        self._known = {numbers: True for numbers in self._within}
 
     @classmethod
     def of(cls, rules, loose=()):
@@ -160,6 +161,10 @@ class Rules:
     def numbers(self, counts):
         """Return the integers of the ruled kinds, in the order of the kinds."""
         return tuple([counts[kind] for kind in self.kinds])
+
+    def includes(self, numbers):
+        """Tell whether counts with these numbers are within the rules."""
+        return numbers in self._known
 
     def each(self):
         """Yield all counts of ruled kinds within the rules, with ascending numbers."""
@@ -189,7 +194,8 @@ def _check_rule(numbers, kinds):
             raise BadRule("kinds")
 
 
-def _allows(rule, total):
+def allows(rule, total):
+    """Tell whether the rule holds for counts with this total."""
     return rule.least <= total and (rule.most is None or total <= rule.most)
 
 
@@ -272,6 +278,6 @@ def _numbers_within(rules, ruled, caps):
     for kind in ruled:
         found = [(*numbers, number) for numbers in found for number in range(caps[kind] + 1)]
     for rule in rules:
-        places = [ruled.index(kind) for kind in rule.kinds]
-        found = [numbers for numbers in found if _allows(rule, sum([numbers[at] for at in places]))]
+        places = [at for at, kind in enumerate(ruled) if kind in rule.kinds]
+        found = [numbers for numbers in found if allows(rule, sum([numbers[at] for at in places]))]
     return found

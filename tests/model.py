@@ -129,7 +129,9 @@ class Model:
         for at, test in enumerate(tests.split(" and ") if tests else []):
             if not self.passes(test.split(), call, other):
                 return "test", at
-        for at, part in enumerate(parts.split(" then ") if parts else []):
+        if word == "look":
+            return None
+        for at, part in enumerate(parts.split(" then ")):
             if not self.part(part.split(), call, other, picks):
                 return "part", at
         for number in (call["home"], other):

@@ -6,7 +6,9 @@ import pathlib
 import unittest
 import warnings
 
-from countsheld import books, counts, desks, doors, errors, histories, rules
+from countsheld import (
+    books, comparing, counts, desks, doors, errors, histories, judging, looker, mending, rules, shutting, standings, unfolding,
+)
 
 FOLDER = pathlib.Path(__file__).resolve().parent.parent / "countsheld"
 DOUBLE = "__init__ __eq__ __repr__ __str__ __len__ __iter__ __le__ __lt__ __ge__ __gt__ __add__ " \
@@ -37,8 +39,18 @@ LISTED = {
         "Owner": "__getitem__ __setitem__ drop __contains__ __len__ numbers_of counts __iter__",
     },
     histories: {"Run": "__len__ counts_after"},
+    judging: {"Verdict": "__bool__ __len__ has"},
+    comparing: {"Comparison": "__bool__ __len__"},
+    mending: {name: "__init__ __call__" for name in ("Change", "Hold", "Look", "Demand", "Help", "After", "Keep")},
 }
-FUNCTIONS = {rules: ["read_rule"], books: ["by_hand"], histories: ["play"]}
+FUNCTIONS = {
+    rules: ["read_rule"], books: ["by_hand"], histories: ["play"],
+    standings: ["standing_of", "at_rest", "is_standing", "alone", "meeting"],
+    judging: ["judge", "possible", "way_to", "farthest"], looker: ["is_certificate", "is_way"],
+    unfolding: ["size_of", "length_of", "chain_of", "unfold"], shutting: ["openings", "shut", "future", "is_future"],
+    comparing: ["outcomes", "compare", "is_comparison"],
+    mending: ["applied", "mends", "mends_of", "enough", "refusals"],
+}
 PARAMETERS = {
     counts.Counts.of: ["pairs"], counts.Counts.tally: ["words"], rules.read_rule: ["text"],
     rules.Rule.total_of: ["self", "counts"], rules.Exactly.holds: ["self", "counts"],
@@ -58,11 +70,30 @@ PARAMETERS = {
     books.Call.go_on: ["self", "other", "picks"], books.Owner.drop: ["self", "row"],
     books.Owner.numbers_of: ["self", "kind"], books.by_hand: ["book", "owner", "edits"],
     histories.play: ["desk", "history"], histories.Run.counts_after: ["self", "at"],
+    standings.standing_of: ["book", "owner"], standings.at_rest: ["desk", "counts"],
+    standings.is_standing: ["desk", "thing"], standings.alone: ["desk", "standing", "only_going"],
+    standings.meeting: ["desk", "home", "other", "only_going"], judging.judge: ["desk"], judging.possible: ["desk"],
+    judging.Verdict.has: ["self", "standing"], judging.way_to: ["desk", "standing"], judging.farthest: ["desk"],
+    looker.is_certificate: ["desk", "thing"], looker.is_way: ["desk", "thing"], unfolding.size_of: ["lines"],
+    unfolding.length_of: ["lines"], unfolding.chain_of: ["lines"], unfolding.unfold: ["desk", "lines"],
+    shutting.openings: ["desk", "counts"], shutting.shut: ["desk"], shutting.future: ["desk", "door", "counts"],
+    shutting.is_future: ["desk", "door", "counts", "thing"],
+    comparing.outcomes: ["desk", "door", "kind", "home", "other"], comparing.compare: ["one", "other"],
+    comparing.is_comparison: ["one", "other", "thing"], mending.Hold.__init__: ["self", "door"],
+    mending.Look.__init__: ["self", "door", "tests"], mending.Demand.__init__: ["self", "door", "tests"],
+    mending.Help.__init__: ["self", "door", "part"], mending.After.__init__: ["self", "door", "part"],
+    mending.Keep.__init__: ["self", "rule"], mending.Change.__call__: ["self", "desk"],
+    mending.Hold.__call__: ["self", "desk"], mending.Look.__call__: ["self", "desk"],
+    mending.Demand.__call__: ["self", "desk"], mending.Help.__call__: ["self", "desk"],
+    mending.After.__call__: ["self", "desk"], mending.Keep.__call__: ["self", "desk"],
+    mending.applied: ["desk", "changes"], mending.mends: ["desk", "pool"], mending.mends_of: ["desk", "pool"],
+    mending.enough: ["desk"], mending.refusals: ["desk"],
 }
 BY_NAME_ONLY = {
     rules.Rules.__init__: {"loose": ()}, desks.Desk.__init__: {"limit": 1, "store": ()},
     desks.Desk.varied: {"doors": None, "limit": None, "store": None},
     books.Book.begin: {"row": None, "other": None, "picks": ()}, books.Call.go_on: {"other": None, "picks": ()},
+    standings.alone: {"only_going": False}, standings.meeting: {"only_going": False},
 }
 
 
@@ -110,6 +141,9 @@ class TestInterface(unittest.TestCase):
         for made, name in ((counts.Counts, "of"), (rules.Rules, "of"), (doors.Door, "of"), (desks.Desk, "read")):
             self.assertIsInstance(vars(made)[name], classmethod)
         self.assertTrue(inspect.isgeneratorfunction(rules.Rules.each))
+        self.assertTrue(inspect.isgeneratorfunction(judging.possible))
+        for name in ("Hold", "Look", "Demand", "Help", "After", "Keep"):
+            self.assertTrue(issubclass(getattr(mending, name), mending.Change))
 
 
 class TestFiles(unittest.TestCase):
@@ -198,6 +232,23 @@ class TestFiles(unittest.TestCase):
                 attributes.add(node.attr)
         # The one property that is assigned has a setter.
         self.assertEqual(methods & attributes, {"desk"})
+
+    def test_no_call_of_what_an_attribute_holds(self):
+        # Behind a dot a method is known by its name alone: what an operator calls must be no attribute, either.
+        attributes = {node.attr for _, node in nodes(ast.Attribute) if isinstance(node.ctx, ast.Store)}
+        called = {node.func.attr for _, node in nodes(ast.Call) if isinstance(node.func, ast.Attribute)}
+        self.assertEqual(called & attributes, set())
+        self.assertNotIn("index", called)
+
+    def test_modules_import_only_those_that_can_be_written_before(self):
+        imported = {path.stem: set() for path in sources()}
+        for path, node in nodes(ast.ImportFrom):
+            imported[path.stem].add(node.module.split(".")[1])
+        done = set()
+        while len(done) < len(imported):
+            fresh = [name for name in imported if name not in done and imported[name] <= done]
+            self.assertNotEqual(fresh, [], sorted(set(imported) - done))
+            done.update(fresh)
 
     def test_attributes_are_assigned_through_a_name(self):
         for path, node in nodes(ast.Attribute):
