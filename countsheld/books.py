@@ -6,7 +6,7 @@ from countsheld.errors import (
     Refused, Waits,
 )
 from countsheld.rows import Rows
-from countsheld.words import is_number
+from countsheld.words import is_index, is_number
 
 
 class Owner:
@@ -125,7 +125,7 @@ class Book:
     def add_owner(self, begin=0):
         """Add an owner with the rows of the begin with this index; return its number."""
         begins = self._desk.begins()
-        if not is_number(begin) or not 0 <= begin < len(begins):
+        if not is_index(begin, len(begins)):
             raise NoBegin(begin)
         rows = Rows()
         for kind, many in begins[begin].pairs():
@@ -182,7 +182,7 @@ class Book:
 
     def call(self, number):
         """Return the call with this number, under way or over."""
-        if not is_number(number) or not 0 <= number < len(self._begun):
+        if not is_index(number, len(self._begun)):
             raise Over(number)
         return self._begun[number]
 

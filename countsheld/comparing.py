@@ -4,7 +4,7 @@ from countsheld.errors import BadDesk, BadWord, NoOwner, TooMany
 from countsheld.pairings import Pairing, whole_call
 from countsheld.standings import are_numbers
 from countsheld.webs import assembled, chain_behind, grown, routes_in
-from countsheld.words import is_number
+from countsheld.words import is_index
 
 _MOST = 40
 
@@ -112,32 +112,29 @@ def _are_within(pairing, thing):
 
 def _are_lines(pairing, first, lines):
     parts_by_two = {}
-    for at, line in enumerate(lines):
+    for at in range(len(lines)):
         # A line rests on those ahead of it, so the first wrong one is the last that is looked at.
-        if not _is_line(pairing, first, lines[:at], line, parts_by_two):
+        if not _is_line(pairing, first, lines, at, parts_by_two):
             return False
     return True
 
 
-def _is_line(pairing, first, earlier, line, parts_by_two):
-    """Tell whether any value is a line behind the earlier ones; parts_by_two keeps what was worked out."""
+def _is_line(pairing, first, lines, at, parts_by_two):
+    """Tell whether any value at this index is a line; parts_by_two keeps what was worked out."""
+    line = lines[at]
     if not isinstance(line, tuple) or len(line) != 4 or not _are_within(pairing, line[0]):
         return False
     numbers, role, source, partner = line
     if role == "begin":
-        return partner is None and _is_index(source, len(first)) and numbers == first[source]
-    if role not in ("home", "other") or not _is_index(source, len(earlier)):
+        return partner is None and is_index(source, len(first)) and numbers == first[source]
+    if role not in ("home", "other") or not is_index(source, at):
         return False
-    if partner is None:
-        two = (earlier[source][0], None)
-    elif _is_index(partner, len(earlier)):
-        two = (earlier[source][0], earlier[partner][0])
-    else:
+    if partner is not None and not is_index(partner, at):
         return False
-    if role == "other":
-        two = two[::-1]
-    if two[0] is None:
+    beside = None if partner is None else lines[partner][0]
+    if role == "other" and beside is None:
         return False
+    two = (lines[source][0], beside) if role == "home" else (beside, lines[source][0])
     if two not in parts_by_two:
         parts_by_two[two] = _parts_of(pairing, two[0], two[1])
     return numbers in parts_by_two[two][0 if role == "home" else 1]
@@ -163,17 +160,13 @@ def _is_parting(pairing, lines, thing):
     if not isinstance(thing, tuple) or len(thing) != 4:
         return False
     name, kind, home, other = thing
-    if name not in pairing.names or kind not in pairing.kinds_for(name) or not _is_index(home, len(lines)):
+    if name not in pairing.names or kind not in pairing.kinds_for(name) or not is_index(home, len(lines)):
         return False
     told = None
     if pairing.touches_in_one(name):
-        if not _is_index(other, len(lines)):
+        if not is_index(other, len(lines)):
             return False
         told = lines[other][0]
     elif other is not None:
         return False
     return not pairing.common_outcomes(name, kind, lines[home][0], told)[1]
-
-
-def _is_index(value, end):
-    return is_number(value) and 0 <= value < end

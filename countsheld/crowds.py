@@ -4,6 +4,15 @@ from countsheld.sights import others_behind, sight_of
 from countsheld.turns import ends_of, has_to_wait, turns_of
 
 
+class View:
+    """What a line sees of owners, the indexes of their standings, and the first home for each effect on them."""
+
+    def __init__(self, sight, at):
+        self.sight = sight
+        self.seen = [at]
+        self.homes = {}
+
+
 class Crowd:
     """Standings of a desk, each let in once, and what becomes of each through all that are in.
 
@@ -87,12 +96,3 @@ class Crowd:
     def _note(self, turn, draft):
         if draft.unkept is not None:
             self.unkept[(turn.plan.name, turn.at, draft.unkept)] = True
-
-
-class View:
-    """What a line sees of owners, the indexes of their standings, and the first home for each effect on them."""
-
-    def __init__(self, sight, at):
-        self.sight = sight
-        self.seen = [at]
-        self.homes = {}

@@ -6,7 +6,7 @@ from countsheld.errors import BadDesk, BadText, NoDoor, Unfit
 from countsheld.headings import begin_of, length_of_head, rest_of
 from countsheld.lines import kinds_of
 from countsheld.rules import Rules, read_rule
-from countsheld.words import is_number
+from countsheld.words import is_index, is_number
 
 
 class Desk:
@@ -133,7 +133,7 @@ def _check_store(rules, store):
     if not isinstance(store, (list, tuple)):
         raise BadDesk("store")
     for at, index in enumerate(store):
-        if not is_number(index) or not 0 <= index < len(rules.listed) or index in store[:at]:
+        if not is_index(index, len(rules.listed)) or index in store[:at]:
             raise BadDesk("store")
 
 

@@ -2,7 +2,7 @@
 
 from countsheld.crowds import Crowd
 from countsheld.standings import alone, at_rest, is_standing, meeting
-from countsheld.words import is_number
+from countsheld.words import is_index
 
 
 class Looker:
@@ -23,10 +23,10 @@ class Looker:
         if not self.is_within(standing) and at + 1 < len(lines):
             return False
         if role == "begin":
-            return partner is None and _is_index(source, len(self._first)) and standing == self._first[source]
+            return partner is None and is_index(source, len(self._first)) and standing == self._first[source]
         if role == "alone":
-            return partner is None and _is_index(source, at) and self._is_next(lines[source][0], standing)
-        if role not in ("home", "other") or not _is_index(source, at) or not _is_index(partner, at):
+            return partner is None and is_index(source, at) and self._is_next(lines[source][0], standing)
+        if role not in ("home", "other") or not is_index(source, at) or not is_index(partner, at):
             return False
         return self._is_part(role, lines[source][0], lines[partner][0], standing)
 
@@ -100,7 +100,3 @@ def _is_table(desk, thing):
         if not all([step[0] in known for _, step in crowd.admit(standing)]):
             return False
     return True
-
-
-def _is_index(value, end):
-    return is_number(value) and 0 <= value < end

@@ -3,7 +3,7 @@
 from countsheld.doors import Door
 from countsheld.errors import BadDesk, BadDoor, NoDoor, NoRule, TooMany, Unfit
 from countsheld.judging import is_kept, survey_of
-from countsheld.words import is_number
+from countsheld.words import is_index
 
 _MOST = 4
 
@@ -99,7 +99,7 @@ class Keep(Change):
         self._index = rule
 
     def __call__(self, desk):
-        if not is_number(self._index) or not 0 <= self._index < len(desk.rules.listed):
+        if not is_index(self._index, len(desk.rules.listed)):
             raise NoRule(self._index)
         if self._index in desk.store:
             return desk.varied()

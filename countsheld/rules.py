@@ -2,7 +2,7 @@
 
 from countsheld.counts import Counts
 from countsheld.errors import BadRule, BadRules, BadWord
-from countsheld.words import is_digit, is_kind, is_number, is_word
+from countsheld.words import is_digit, is_index, is_kind, is_word
 
 
 class Rule:
@@ -183,7 +183,7 @@ class Rules:
 def _check_rule(numbers, kinds):
     """Raise BadRule unless a rule can have these numbers, the least first, and these kinds."""
     for number in numbers:
-        if not is_number(number) or not 0 <= number <= 9:
+        if not is_index(number, 10):
             raise BadRule("number")
     if numbers[0] > numbers[-1]:
         raise BadRule("number")

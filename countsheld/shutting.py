@@ -3,7 +3,7 @@
 from countsheld.errors import NotKept, NoWay
 from countsheld.judging import survey_of
 from countsheld.order import ascending
-from countsheld.standings import at_rest, is_standing
+from countsheld.standings import at_rest
 from countsheld.turns import ends_of, has_to_wait, turns_of
 
 

@@ -5,7 +5,7 @@ from countsheld.order import ascending, is_ascending
 from countsheld.places import Place, has_held, standing_at
 from countsheld.sights import others_behind, sight_of
 from countsheld.turns import ends_of, has_to_wait, turns_of
-from countsheld.words import is_number
+from countsheld.words import is_index
 
 
 def standing_of(book, owner):
@@ -49,7 +49,7 @@ def are_numbers(rules, thing):
     """Tell whether any value is a tuple of an integer from 0 to 99 for each ruled kind."""
     if not isinstance(thing, tuple) or len(thing) != len(rules.kinds):
         return False
-    return all([is_number(number) and 0 <= number <= 99 for number in thing])
+    return all([is_index(number, 100) for number in thing])
 
 
 def alone(desk, standing, *, only_going=False):
@@ -115,4 +115,4 @@ def _is_call(desk, thing):
     if not isinstance(thing, tuple) or len(thing) != 2 or thing[0] not in desk:
         return False
     name, at = thing
-    return is_number(at) and 1 <= at < len(desk[name])
+    return is_index(at, len(desk[name])) and at > 0

@@ -28,6 +28,11 @@ def is_number(value):
     return isinstance(value, int) and not isinstance(value, bool)
 
 
+def is_index(value, end):
+    """Tell whether any value is an integer from 0 to below the end."""
+    return is_number(value) and 0 <= value < end
+
+
 def is_short(value):
     """Tell whether any value is an integer of at most thirty digits."""
     return is_number(value) and -_BEYOND < value < _BEYOND

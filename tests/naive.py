@@ -192,6 +192,49 @@ class Search:
             found.update({one: depth for one in layer})
         return found
 
+    def sized_steps(self, sizes):
+        """Yield (before, behind, whether no rule is broken, how much the size grows) for each owner concerned."""
+        listed = sorted(self.found)
+        for standing in listed:
+            for behind in self.nexts(standing):
+                yield standing, behind, self.within(behind), 1
+        for home, other in itertools.product(listed, repeat=2):
+            for here, there in self.pairs(home, other):
+                within = self.within(here) and self.within(there)
+                yield home, here, within, 1 + sizes.get(other, self.huge)
+                if there is not None:
+                    yield other, there, within, 1 + sizes.get(home, self.huge)
+
+    huge = 10 ** 60
+
+    def sizes(self):
+        """Return the least size of any way to each possible standing."""
+        found, changed = {standing: 1 for standing in self.begins}, True
+        while changed:
+            changed = False
+            for before, behind, within, more in list(self.sized_steps(found)):
+                size = found.get(before, self.huge) + more
+                if within and size < found.get(behind, self.huge):
+                    found[behind], changed = size, True
+        return found
+
+    def sizes_of_shortest(self, lengths):
+        """Return the least sizes of ways of the least length."""
+        self.least = self.sizes()
+        steps = list(self.sized_steps(self.least))
+        found = {standing: 1 for standing in self.begins}
+        for length in range(1, max(lengths.values()) + 1):
+            for before, behind, within, more in steps:
+                if within and lengths[behind] == length == lengths[before] + 1:
+                    found[behind] = min(found.get(behind, self.huge), found[before] + more)
+        return found
+
+    def size_of_trace(self, lengths, sizes):
+        """Return the least size of a trace of the least length."""
+        broken = [(lengths[before], sizes[before] + more) for before, behind, _, more in self.sized_steps(self.least)
+                  if not self.within(behind)]
+        return min(broken)[1]
+
     def breaks(self):
         """Return the pairs (standing before, standing behind) of owners whose rule an event breaks."""
         return {(before, behind) for before, behind, _ in self.steps(self.found) if not self.within(behind)}

@@ -10,7 +10,7 @@ from countsheld.counts import Counts
 from countsheld.desks import Desk
 from countsheld.doors import Door
 from countsheld.errors import BadDesk, BadWord, NoDoor, NoOwner, TooMany
-from countsheld.rules import AtLeast, AtMost, Between, Exactly, Rules
+from countsheld.rules import AtLeast, AtMost, Between, Rules
 from making import desk, door
 from odd import odd_values
 from small import a_door, small_desk
@@ -296,6 +296,24 @@ class TestCompare(unittest.TestCase):
         table = (((0, 0), "begin", 0, None), ((0, 0), "begin", 0, None), ((1, 0), "home", 1, None), ((2, 0), "home", 2, None))
         self.assertTrue(is_comparison(one, two, ("parted", table, ("e", "x", 0, 3))))
 
+    def test_the_least_chain_of_the_home(self):
+        # A call differs at an owner of a begin, but only with another owner that comes about later than other differences.
+        rules = Rules(AtMost(3, "a"), AtMost(1, "b"), loose=["x"])
+        doors = ["u: do new a if a < 3", "v: look a = 1 / do new b"]
+        one = self.of(*doors, "d: do give x -> b if a = 0 and b = 0 and other a = 3 and other b = 0", rules=rules)
+        two = self.of(doors[0], "v: look a = 1 / do new b then all b -> gone", "d: do join if a = 0 and b = 0 and other a = 3 and other b = 0",
+                      rules=rules)
+        self.assertEqual(self.check(one, two), 1)
+        _, lines, call = compare(one, two).certificate
+        self.assertEqual((call[0], lines[call[2]][0], lines[call[3]][0]), ("d", (0, 0), (3, 0)))
+        # Lines of the other owner come of others' calls.
+        rules = Rules(AtMost(1, "a"), AtMost(1, "b"), AtMost(1, "c"))
+        doors = ["u: do new a if a = 0", "g: do give a -> b if other b = 0", "h: do give b -> c if other c = 0"]
+        one = self.of(*doors, "d: look c = 1 / do all c -> gone", rules=rules)
+        two = self.of(*doors, "d: look c = 1 / do all c -> a", rules=rules)
+        self.assertEqual(self.check(one, two), 2)
+        self.assertIn("other", [line[1] for line in compare(one, two).certificate[1]])
+
     def test_counts_beyond_the_rules_are_not_gone_on_from(self):
         one = self.of("d: do new a", "e: look a > 2 / do new b")
         self.assertEqual(self.check(one, self.of("d: do new a", "e: look a > 2 / do new a")), 0)
@@ -411,6 +429,8 @@ class TestIsComparison(unittest.TestCase):
         self.assertEqual(len(found), 2)
         word, lines, call = found.certificate
         self.assertEqual((word, call[:2], lines[call[2]][0]), ("parted", ("d", None), (1, 0)))
+        self.assertTrue(is_comparison(one, two, found.certificate))
+        self.assertIn("other", [line[1] for line in lines])
         self.assertEqual(lines[call[3]][0][1], 1)
         self.tampered(one, two, lines, call)
 
@@ -430,6 +450,9 @@ class TestIsComparison(unittest.TestCase):
                 tried.append((lines, (*call[:part], value, *call[part + 1:])))
         tried += [(list(lines), call), (lines, list(call)), (lines, call[:3]), (lines, (*call, None)), ((), call), (lines, None),
                   (lines + lines, call), (lines + ((2, 2),), call)]
+        self.assertTrue(is_comparison(one, two, ("parted", lines, call)))
+        for line in (lines[0] + (None,), lines[0][:3], lines[0][:1]):
+            tried += [(lines + (line,), call), ((line,) + lines[1:], call)]
         good = 0
         for thing in tried:
             found = is_comparison(one, two, ("parted", *thing))

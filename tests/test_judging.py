@@ -12,7 +12,8 @@ from countsheld.judging import Verdict, farthest, judge, possible, way_to
 from countsheld.looker import is_certificate, is_way
 from countsheld.rules import AtLeast, AtMost, Between, Exactly, Rules
 from countsheld.standings import alone, at_rest, meeting, standing_of
-from countsheld.unfolding import length_of
+from countsheld.histories import play
+from countsheld.unfolding import length_of, size_of, unfold
 from making import desk
 from odd import odd_values
 from replay import do_event
@@ -54,6 +55,7 @@ class TestVerdicts(unittest.TestCase):
         self.assertIn(trace[-1][0], last)
         self.assertTrue(is_certificate(used, verdict.certificate))
         self.assertFalse(is_way(used, trace))
+        return trace
 
     def test_look_first(self):
         for limit, length in ((2, 4), (3, 4)):
@@ -99,6 +101,30 @@ class TestVerdicts(unittest.TestCase):
         # Three partners with two rows each are needed, and three events at the owner alone.
         self.assertEqual((len(verdict), verdict.certificate[1][-1][0]), (3, ((0, 3), ())))
         self.assertTrue(is_certificate(used, verdict.certificate))
+
+    def test_partners_of_partners(self):
+        used = desk(rules=Rules(AtMost(1, "a"), AtMost(1, "b"), AtMost(1, "c"), AtMost(0, "d")), limit=1, up="do new a if a = 0",
+                    ab="do give a -> b if other b = 0", bc="do give b -> c if other c = 0", cd="do give c -> d")
+        trace = self.broken(used, 1, ((0, 0, 0, 1), ()))
+        self.assertEqual(size_of(trace), 8)
+        history, owner = unfold(used, trace)
+        self.assertEqual((play(used, history).breach, len(history)), (len(history) - 1, size_of(trace)))
+
+    def test_effects_that_come_about_late(self):
+        # Rows of `a` are given away only where there are three of `c`, and it is the only way to some standings.
+        used = desk(rules=Rules(AtMost(1, "a"), AtMost(2, "b"), AtMost(3, "c")), limit=1, ub="do new b if a = 0 and b < 2",
+                    uc="do new c if a = 0 and c < 3", ua="do new a if a = 0 and c = 3", give="do give a -> a if other a = 0")
+        self.kept(used, 24)
+        search = naive.Search(used, alone, meeting)
+        self.assertEqual(set(possible(used)), search.found)
+
+    def test_calls_that_wait_for_an_owner_that_is_held(self):
+        named = {"rules": Rules(Between(1, 2, "a")), "begins": [Counts(a=2), Counts(a=1)], "limit": 1,
+                 "drop": "hold / look a = 2 / do one a -> gone"}
+        take = "do take a -> a if a = 1 and other a = 2"
+        self.assertTrue(judge(desk(take="hold / " + take, **named)))
+        self.assertFalse(judge(desk(take="look a = 1 / " + take, **named)))
+        self.assertFalse(judge(desk(take=take + " / hold", **named)))
 
     def test_the_store(self):
         used = desk(rules=Rules(AtMost(1, "a"), AtMost(1, "b")), limit=1, store=[0], give="do give a -> b", new="do new a")
@@ -247,17 +273,21 @@ class TestAgainstSearches(unittest.TestCase):
         self.assertFalse(search.too_many, shown)
         self.assertEqual(sorted(possible(used)), sorted(search.found), shown)
         breaks, lengths = search.breaks(), search.lengths()
+        sizes = search.sizes_of_shortest(lengths)
         self.assertEqual(bool(verdict), not breaks, shown)
         self.assertTrue(is_certificate(used, verdict.certificate))
         if breaks:
             self.assertEqual(len(verdict), 1 + min(lengths[before] for before, _ in breaks), shown)
             self.assertEqual(length_of(verdict.certificate[1]), len(verdict))
+            # Not promised: none of the least length is smaller.
+            self.assertEqual(size_of(verdict.certificate[1]), search.size_of_trace(lengths, sizes), shown)
         else:
             self.assertEqual(sorted(verdict.certificate[1]), sorted(search.found))
         for standing in search.found:
             way = way_to(used, standing)
             self.assertTrue(is_way(used, way))
             self.assertEqual((way[-1][0], length_of(way)), (standing, lengths[standing]), shown)
+            self.assertEqual(size_of(way), sizes[standing], shown)
         self.check_farthest(used, search, search.late(one, two))
         return len(verdict)
 

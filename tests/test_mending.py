@@ -13,7 +13,7 @@ from countsheld.judging import judge, possible
 from countsheld.mending import (
     After, Change, Demand, Help, Hold, Keep, Look, applied, enough, mends, mends_of, refusals,
 )
-from countsheld.rules import AtLeast, AtMost, Between, Exactly, Rules
+from countsheld.rules import AtLeast, AtMost, Between, Rules
 from making import desk
 from odd import odd_values
 from small import small_desk

@@ -157,10 +157,30 @@ class TestFutures(unittest.TestCase):
             self.assertIs(look(*standings), False, standings)
         self.assertFalse(look(zero, one, two, at=Counts(a=1)))
         self.assertTrue(look(one, two, at=Counts(a=1)))
-        self.assertFalse(look(zero, one, two, word="shut"))
+        for word in ("shut", "Opens", "open", None, True, ("opens",)):
+            self.assertFalse(look(zero, one, two, word=word))
         self.assertFalse(look(zero, one, two, door="up"))
         self.assertTrue(look(zero, one, two, going, one, door="up"))
         self.assertFalse(is_future(STEPS, "end", Counts(), ("opens", [zero, one, two])))
+
+    def test_standings_that_are_not_at_rest(self):
+        # Another call could begin and be carried through beside the one under way.
+        rules = Rules(AtMost(1, "a"))
+        used = desk(rules=rules, begins=[Counts()], limit=2, up="look a = 0 / do new a if a = 0", see="look a = 0 / look a = 0 / do all a -> a")
+        going = ((0,), (("", (("see", 1),)),))
+        self.assertTrue(is_future(used, "see", Counts(), ("opens", (rest(0),))))
+        self.assertFalse(is_future(used, "see", Counts(), ("opens", (rest(0), going))))
+        self.assertTrue(is_future(used, "see", Counts(), ("opens", (rest(0), going, rest(0)))) is
+                        (rest(0) in alone(used, going)))
+        # A call is under way at some of the standings that show that a door is shut, and could begin there, too.
+        used = desk(rules=Rules(AtMost(1, "a"), AtMost(1, "b")), begins=[Counts(a=1)], limit=2, last="look b = 1 / do all a -> a",
+                    up="look a = 1 / do new b if b = 0 / do all b -> gone / look a = 1", shut="look b = 1 / look b = 0 / do new b if b = 0 and a = 0")
+        self.assertTrue(any(standing[0][1] == 1 and standing[1] for standing in possible(used)))
+        self.assertEqual([name for name, _ in shut(used)], ["last", "shut"])
+        for name in ("last", "shut"):
+            thing = future(used, name, Counts(a=1))
+            self.assertEqual(thing[0], "shut")
+            self.assertTrue(is_future(used, name, Counts(a=1), thing))
 
     def test_what_meetings_make_of_an_owner(self):
         rules = Rules(AtMost(2, "a"))

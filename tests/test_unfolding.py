@@ -8,7 +8,7 @@ from countsheld.errors import BadWay, TooMany
 from countsheld.histories import play
 from countsheld.judging import judge, possible, way_to
 from countsheld.looker import is_certificate, is_way
-from countsheld.rules import AtMost, Rules
+from countsheld.rules import AtMost, Between, Exactly, Rules
 from countsheld.standings import alone, meeting, standing_of
 from countsheld.unfolding import chain_of, length_of, size_of, unfold
 from making import desk
@@ -232,6 +232,96 @@ class TestLooseRows(Unfolding):
         zero = (((1, 0), ()), "begin", 0, None)
         waits = (((1, 0), (("x", (("wait", 1),)),)), "alone", 0, None)
         self.unfolded(used, (zero, waits, (((0, 0), (("x", (("wait", 1),)),)), "home", 1, 1)))
+
+
+class TestWhichEvent(Unfolding):
+    """Where several events lead to a standing, or several rows could be taken."""
+
+    def test_both_owners_break_a_rule(self):
+        used = desk(rules=Rules(Exactly(1, "a")), begins=[Counts(a=1)], limit=1, give="do give a -> a")
+        begin = (ONE, "begin", 0, None)
+        self.unfolded(used, (begin, (((2,), ()), "other", 0, 0)))
+        self.unfolded(used, (begin, (ZERO, "home", 0, 0)))
+
+    def test_the_other_owner_stays_within_the_rules(self):
+        rules = Rules(AtMost(3, "a"), Between(1, 2, "b"))
+        used = desk(rules=rules, begins=[Counts(a=1, b=1)], limit=1, bad="do take b -> a", good="do take a -> a", worse="do join")
+        begin = (((1, 1), ()), "begin", 0, None)
+        self.unfolded(used, (begin, (((2, 1), ()), "home", 0, 0)))
+        # The home stays within them, too.
+        used = desk(rules=rules, begins=[Counts(a=1, b=1)], limit=1, bad="do give b -> a", good="do give a -> a")
+        self.unfolded(used, (begin, (((2, 1), ()), "other", 0, 0)))
+
+    def test_a_line_that_has_to_wait_is_passed_over(self):
+        rules = Rules(AtMost(2, "a"), loose=["x"])
+        used = desk(rules=rules, begins=[Counts(a=1)], limit=2, d="hold / do take a -> x", e="look a > 0 / do take a -> x")
+        begin = (ONE, "begin", 0, None)
+        held = ((1,), (("", (("d", 1),)),))
+        both = ((1,), (("", (("d", 1), ("e", 1))),))
+        lines = (begin, (held, "alone", 0, None), (both, "alone", 1, None), (((0,), held[1]), "other", 1, 2))
+        self.assertTrue(is_way(used, lines))
+        self.unfolded(used, lines)
+
+    def test_the_row_of_the_calls(self):
+        rules = Rules(AtMost(2, "a"), loose=["x"])
+        used = desk(rules=rules, begins=[Counts(a=1)], limit=3, take="do take x -> x", v="look row x / do row x -> a",
+                    w="look row x / do row x -> a")
+        begin = (((1,), ()), "begin", 0, None)
+        for steps in ("vw", "wv", "v,w", "w,v", "vw,w", "w,vw", "w,vv", "vw,v", "vv,w", "v,vw", "v,vv", "vv,v", "w,ww", "vww"):
+            # Calls of one row are written together; the rows come one after another.
+            lines, rows = [begin], []
+            for names in steps.split(","):
+                rows.append(())
+                for name in names:
+                    rows[-1] = tuple(sorted((*rows[-1], (name, 1))))
+                    groups = tuple(sorted(("x", calls) for calls in rows))
+                    lines.append((((1,), groups), "alone", len(lines) - 1, None))
+            for at in range(len(rows)):
+                left = [("x", calls) for calls in rows[:at] + rows[at + 1:]] + [("gone", rows[at])]
+                taken = ((1,), tuple(sorted(left)))
+                self.assertTrue(is_way(used, (*lines, (taken, "other", len(lines) - 1, 0))))
+                self.unfolded(used, (*lines, (taken, "other", len(lines) - 1, 0)))
+                # The call of just this row goes on.
+                for call in sorted(set(rows[at])):
+                    calls = list(rows[at])
+                    calls.remove(call)
+                    left = [("x", calls) for calls in rows[:at] + rows[at + 1:]] + ([("a", tuple(calls))] if calls else [])
+                    self.unfolded(used, (*lines, (((2,), tuple(sorted(left))), "alone", len(lines) - 1, None)))
+
+    def test_rows_with_one_number_at_both_owners(self):
+        rules = Rules(AtMost(2, "a"), loose=["x"])
+        used = desk(rules=rules, begins=[Counts(a=1)], limit=2, e="do all a -> x then new a", d="look row x / do take x -> a then row x -> a")
+        begin = (ONE, "begin", 0, None)
+        named = ((1,), (("x", (("d", 1),)),))
+        # The touched owner has rows of the kind, of which one has the number of the row that the home's call names.
+        lines = (begin, (ONE, "alone", 0, None), (ONE, "alone", 1, None), (named, "alone", 0, None), (ONE, "home", 3, 2))
+        history = self.unfolded(used, lines)
+        self.assertEqual([event[2] for event in history if event[0] == "leave"], [0, 1])
+        self.unfolded(used, (begin, (named, "alone", 0, None), (ONE, "home", 1, 0)))
+
+    def test_rows_of_several_kinds_with_equal_calls(self):
+        used = desk(rules=Rules(AtMost(2, "a"), AtMost(2, "b"), loose=["x"]), begins=[Counts(a=1, b=1)], limit=3,
+                    d="look a = 1 / do row a or b or x -> gone")
+        call = (("d", 1),)
+        whole = [("a", call), ("b", call), ("x", call)]
+        for order in ((0, 1, 2), (2, 1, 0), (1, 0, 2)):
+            lines = [(((1, 1), ()), "begin", 0, None)]
+            for many in (1, 2, 3):
+                groups = tuple(sorted(whole[at] for at in order[:many]))
+                lines.append((((1, 1), groups), "alone", many - 1, None))
+            for at, numbers in enumerate(((0, 1), (1, 0), (1, 1))):
+                gone = (numbers, tuple(one for one in whole if one != whole[at]))
+                self.unfolded(used, (*lines, (gone, "alone", 3, None)))
+
+    def test_rows_that_other_calls_name_are_not_taken(self):
+        used = desk(rules=Rules(AtMost(3, "a"), AtMost(3, "b")), begins=[Counts(a=2)], limit=2, one="do one a -> b", take="do take a -> b",
+                    e="look row a / do row a -> a")
+        begin = (((2, 0), ()), "begin", 0, None)
+        named = ("a", (("e", 1),))
+        first = (begin, (((2, 0), (named,)), "alone", 0, None))
+        for last in ((((1, 1), (named,)), "alone", 1, None), (((1, 1), (("b", (("e", 1),)),)), "alone", 1, None),
+                     (((1, 0), (named,)), "other", 1, 0), (((1, 0), (("gone", (("e", 1),)),)), "other", 1, 0)):
+            self.unfolded(used, (*first, last))
 
 
 class TestAgainstDesks(Unfolding):
