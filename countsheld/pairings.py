@@ -12,7 +12,7 @@ def whole_call(desk, plan, kind, home, other):
     """
     label = kind if plan.names_row else ""
     found = {}
-    reached = {(home, other, label): True}
+    reached = [(home, other, label)]
     for step in plan.steps:
         behind = {}
         for before in reached:
@@ -21,7 +21,7 @@ def whole_call(desk, plan, kind, home, other):
                 found[_outcome("refused", before, plan, kind)] = True
             for one in let:
                 behind[one] = True
-        reached = behind
+        reached = list(behind)
     for last in reached:
         found[_outcome("let", last, plan, kind)] = True
     return list(found)

@@ -60,7 +60,8 @@ def routes_in(web):
     while layer:
         routes.update(layer)
         upcoming = {}
-        for source in layer:
+        # Behind the loop `layer` names the dict that the loop fills, so a copy is walked.
+        for source in list(layer):
             for step in web.steps_from[source]:
                 at = web.place_by_thing.get(step[0])
                 if at is not None and at not in routes:
